@@ -1,0 +1,216 @@
+package rubric
+
+import (
+	"math"
+	"math/rand/v2"
+	"slices"
+	"strings"
+	"testing"
+
+	"rubric/api"
+)
+
+var pieces = []string{
+	" ", "  ", "    ", "\n", "\n", "\n\n", "-", "- ", "* ", "+ ", "1. ", "2) ", "1.", "123456) ", "1234567. ",
+	">", "> ", "#", "## ", " #", "```", "~~~", "````", "`", "~", "=", "---", "***", "_", "* * *", "a", "b c",
+	"\t", "\r", "\x00", "\xff", "\xe2\x82", "é", "[", "](", "!", "\\", "<a:>",
+}
+
+// madeTexts tells texts made of pieces that have a meaning, and of any bytes; always the same ones.
+func madeTexts() []string {
+	source := rand.New(rand.NewPCG(1, 2))
+	var out []string
+	for i := range 6000 {
+		var text strings.Builder
+		for range 1 + source.IntN(40) {
+			if i%4 == 0 {
+				text.WriteByte(byte(source.UintN(256)))
+			} else {
+				text.WriteString(pieces[source.IntN(len(pieces))])
+			}
+		}
+		out = append(out, text.String())
+	}
+	for b := range 256 {
+		out = append(out, string([]byte{byte(b)}), strings.Repeat(string([]byte{byte(b)}), api.MaxText))
+		for _, s := range pieces {
+			out = append(out, s+string([]byte{byte(b)}), string([]byte{byte(b)})+s)
+		}
+	}
+	return out
+}
+
+func isBlock(k api.Kind) bool { return k >= api.Paragraph && k <= api.List }
+
+// mayHold tells whether a node of one kind may stand right within one of another (0: the text).
+func mayHold(outer, inner api.Kind) bool {
+	switch outer {
+	case 0, api.Quote, api.Item:
+		return isBlock(inner)
+	case api.List:
+		return inner == api.Item
+	case api.Code, api.Rule, api.Text, api.Soft, api.Break, api.Span:
+		return false
+	}
+	return inner >= api.Text && inner <= api.Strong
+}
+
+// withoutNamed clears what a node of its kind may have, so that only what it must not have is left.
+func withoutNamed(n api.Node) api.Node {
+	n.Depth = 0
+	switch n.Kind {
+	case api.Heading:
+		n.N = 0
+	case api.Code:
+		n.Info, n.Text = "", ""
+	case api.List:
+		n.N, n.Text = 0, ""
+	case api.Link, api.Image:
+		n.Info = ""
+	case api.Text, api.Span:
+		n.Text = ""
+	}
+	return n
+}
+
+func checkShape(t *testing.T, text string, tree []api.Node) {
+	t.Helper()
+	path := []api.Kind{0}
+	for i, n := range tree {
+		if n.Depth < 0 || n.Depth >= len(path) || !mayHold(path[n.Depth], n.Kind) {
+			t.Errorf("P3: the tree of %q: node %d stands where it may not: %v", text, i, tree)
+			return
+		}
+		path = append(path[:n.Depth+1], n.Kind)
+		if withoutNamed(n) != (api.Node{Kind: n.Kind}) {
+			t.Errorf("P3: the tree of %q: node %d has what its kind has not: %v", text, i, n)
+		}
+		switch {
+		case n.Kind == api.Heading && (n.N < 1 || n.N > 6),
+			n.Kind == api.List && (n.N < -1 || n.N > 999999 || n.Text != "tight" && n.Text != "loose"),
+			n.Kind == api.List && (i+1 == len(tree) || tree[i+1].Depth != n.Depth+1),
+			n.Kind == api.Text && n.Text == "":
+			t.Errorf("P3: the tree of %q: node %d: %v", text, i, n)
+		}
+	}
+}
+
+func TestP1AnyBytes(t *testing.T) {
+	for _, text := range madeTexts() {
+		checkShape(t, text, mustTree(t, text))
+		Page(text)
+		Titles(text)
+	}
+}
+
+func TestP1SheetCalls(t *testing.T) {
+	for _, text := range []string{"", "a", "# a\n- b", "\xff\x00", strings.Repeat("a", api.MaxText+1)} {
+		s, e := NewSheet(text)
+		if e != api.OK {
+			continue
+		}
+		for _, n := range []int{math.MinInt, -1, 0, 1, api.MaxText, math.MaxInt} {
+			s.Edit(n, 0, "a")
+			s.Edit(0, n, "a")
+			s.Edit(n, n, text)
+		}
+		s.Text()
+		s.Page()
+		s.Titles()
+	}
+}
+
+func TestP1NothingWithAnError(t *testing.T) {
+	long := strings.Repeat("# a\n", api.MaxText)
+	if tree, e := Tree(long); e == api.OK || len(tree) != 0 {
+		t.Errorf("P1: Tree of a long text: %d nodes, error %d", len(tree), e)
+	}
+}
+
+func TestP2SameAnswer(t *testing.T) {
+	texts := madeTexts()
+	first := make([][]api.Node, len(texts))
+	for i, text := range texts {
+		first[i] = mustTree(t, text)
+	}
+	for i, text := range slices.Backward(texts) {
+		if again := mustTree(t, text); !slices.Equal(first[i], again) {
+			t.Errorf("P2: the tree of %q is another one the second time: %v, %v", text, first[i], again)
+		}
+	}
+}
+
+func TestP2NewMemory(t *testing.T) {
+	const text = "- a\n- b\n\n      c\n\n> # d"
+	first := mustTree(t, text)
+	want := slices.Clone(first)
+	second := mustTree(t, text)
+	clear(first[:cap(first)])
+	if !slices.Equal(second, want) || !slices.Equal(mustTree(t, text), want) {
+		t.Errorf("P2: a tree changes with another one: %v", second)
+	}
+}
+
+func linesOf(text string) []string {
+	return strings.Split(strings.TrimSuffix(text, "\n"), "\n")
+}
+
+func deeper(tree []api.Node, by int) []api.Node {
+	out := slices.Clone(tree)
+	for i := range out {
+		out[i].Depth += by
+	}
+	return out
+}
+
+// TestQuoteOfText: what is laid behind quote marks is told as it is, one deeper.
+func TestQuoteOfText(t *testing.T) {
+	for _, text := range madeTexts() {
+		quoted := "> " + strings.Join(linesOf(text), "\n> ")
+		if len(quoted) > api.MaxText {
+			continue
+		}
+		want := slices.Concat(one(0, api.Quote), deeper(mustTree(t, text), 1))
+		if got := mustTree(t, quoted); !slices.Equal(got, want) {
+			t.Errorf("P3: the tree of %q:\n%v\nwant\n%v", quoted, got, want)
+		}
+	}
+}
+
+// TestItemOfText: what is laid behind a marker, at its margin, is told as it is, two deeper.
+func TestItemOfText(t *testing.T) {
+	for _, text := range madeTexts() {
+		lines := linesOf(text)
+		for len(lines) > 0 && strings.Trim(lines[len(lines)-1], " ") == "" {
+			lines = lines[:len(lines)-1]
+		}
+		if len(lines) == 0 || strings.HasPrefix(lines[0], " ") || lines[0] == "" {
+			continue
+		}
+		item := "7) " + strings.Join(lines, "\n   ")
+		if len(item) > api.MaxText {
+			continue
+		}
+		got := mustTree(t, item)
+		want := slices.Concat(list(0, 7, "tight"), one(1, api.Item), deeper(mustTree(t, strings.Join(lines, "\n")), 2))
+		want[0].Text = got[0].Text
+		if !slices.Equal(got, want) {
+			t.Errorf("P3: the tree of %q:\n%v\nwant\n%v", item, got, want)
+		}
+	}
+}
+
+// TestTextBetweenFences: what stands between fences is told as it is.
+func TestTextBetweenFences(t *testing.T) {
+	width := strings.Repeat("~", 100)
+	for _, text := range madeTexts() {
+		if len(text)+2*len(width)+2 > api.MaxText || strings.Contains(text, width) {
+			continue
+		}
+		body := strings.TrimSuffix(text, "\n") + "\n"
+		want := slices.Concat(code(0, "", body), paragraph(0, "a"))
+		if got := mustTree(t, width+"\n"+body+width+"\na"); !slices.Equal(got, want) {
+			t.Errorf("P3: %q between fences:\n%v\nwant\n%v", text, got, want)
+		}
+	}
+}
