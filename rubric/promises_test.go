@@ -14,6 +14,7 @@ var pieces = []string{
 	" ", "  ", "    ", "\n", "\n", "\n\n", "-", "- ", "* ", "+ ", "1. ", "2) ", "1.", "123456) ", "1234567. ",
 	">", "> ", "#", "## ", " #", "```", "~~~", "````", "`", "~", "=", "---", "***", "_", "* * *", "a", "b c",
 	"\t", "\r", "\x00", "\xff", "\xe2\x82", "é", "[", "](", "!", "\\", "<a:>",
+	"*", "**", "***", "__", "_a", "a_", "``", "](b)", "]", "![", "[c](d)", "<ab:e>", "<ab:", ".", "  \n", "\\\n",
 }
 
 // madeTexts tells texts made of pieces that have a meaning, and of any bytes; always the same ones.
@@ -73,6 +74,21 @@ func withoutNamed(n api.Node) api.Node {
 	return n
 }
 
+// besideText tells whether the last node that is no deeper than a depth is a text there.
+func besideText(tree []api.Node, depth int) bool {
+	for _, n := range slices.Backward(tree) {
+		if n.Depth <= depth {
+			return n.Depth == depth && n.Kind == api.Text
+		}
+	}
+	return false
+}
+
+// isAddress tells whether nodes begin with a link that is its own address: those of < and > may stand within others.
+func isAddress(tree []api.Node) bool {
+	return len(tree) > 1 && tree[1] == api.Node{Depth: tree[0].Depth + 1, Kind: api.Text, Text: tree[0].Info}
+}
+
 func checkShape(t *testing.T, text string, tree []api.Node) {
 	t.Helper()
 	path := []api.Kind{0}
@@ -89,7 +105,9 @@ func checkShape(t *testing.T, text string, tree []api.Node) {
 		case n.Kind == api.Heading && (n.N < 1 || n.N > 6),
 			n.Kind == api.List && (n.N < -1 || n.N > 999999 || n.Text != "tight" && n.Text != "loose"),
 			n.Kind == api.List && (i+1 == len(tree) || tree[i+1].Depth != n.Depth+1),
-			n.Kind == api.Text && n.Text == "":
+			n.Kind == api.Text && (n.Text == "" || besideText(tree[:i], n.Depth)),
+			n.Kind == api.Link && slices.Contains(path[:n.Depth+1], api.Link) && !isAddress(tree[i:]),
+			(n.Kind == api.Emph || n.Kind == api.Strong) && (i+1 == len(tree) || tree[i+1].Depth != n.Depth+1):
 			t.Errorf("P3: the tree of %q: node %d: %v", text, i, n)
 		}
 	}
@@ -141,7 +159,7 @@ func TestP2SameAnswer(t *testing.T) {
 }
 
 func TestP2NewMemory(t *testing.T) {
-	const text = "- a\n- b\n\n      c\n\n> # d"
+	const text = "- a\n- b\n\n      c\n\n> # d *e* [f](g)"
 	first := mustTree(t, text)
 	want := slices.Clone(first)
 	second := mustTree(t, text)
@@ -173,6 +191,72 @@ func TestQuoteOfText(t *testing.T) {
 		want := slices.Concat(one(0, api.Quote), deeper(mustTree(t, text), 1))
 		if got := mustTree(t, quoted); !slices.Equal(got, want) {
 			t.Errorf("P3: the tree of %q:\n%v\nwant\n%v", quoted, got, want)
+		}
+	}
+}
+
+// lineOf makes one line of a text, with an a at both ends, so that it is a paragraph's content as it is.
+func lineOf(text string) string {
+	return "a" + strings.ReplaceAll(text, "\n", " ") + "a"
+}
+
+const marks = "!\"#$%&'()*+,-./:;<=>?@[\\]^_`{|}~"
+
+// TestMarksWithoutMeaning: with a backslash ahead of each of its marks, a text is told as it is.
+func TestMarksWithoutMeaning(t *testing.T) {
+	for _, text := range madeTexts() {
+		line := lineOf(text)
+		var escaped strings.Builder
+		for _, b := range []byte(line) {
+			if strings.IndexByte(marks, b) >= 0 {
+				escaped.WriteByte('\\')
+			}
+			escaped.WriteByte(b)
+		}
+		if escaped.Len() > api.MaxText {
+			continue
+		}
+		if got := mustTree(t, escaped.String()); !slices.Equal(got, paragraph(0, line)) {
+			t.Errorf("P3: the tree of %q:\n%v", escaped.String(), got)
+		}
+	}
+}
+
+// TestTextBetweenGraves: what stands between graves is told as it is.
+func TestTextBetweenGraves(t *testing.T) {
+	width := strings.Repeat("`", 100)
+	for _, text := range madeTexts() {
+		line := lineOf(text)
+		whole := "b" + width + line + width + "c"
+		if len(whole) > api.MaxText || strings.Contains(line, width) {
+			continue
+		}
+		want := []api.Node{
+			{Kind: api.Paragraph},
+			{Depth: 1, Kind: api.Text, Text: "b"},
+			{Depth: 1, Kind: api.Span, Text: line},
+			{Depth: 1, Kind: api.Text, Text: "c"},
+		}
+		if got := mustTree(t, whole); !slices.Equal(got, want) {
+			t.Errorf("P3: the tree of %q:\n%v", whole, got)
+		}
+	}
+}
+
+// TestHeadingOfLine: a content has the same within it in a heading and in a paragraph.
+func TestHeadingOfLine(t *testing.T) {
+	for _, text := range madeTexts() {
+		line := lineOf(text)
+		if len(line)+2 > api.MaxText {
+			continue
+		}
+		want := mustTree(t, line)
+		want[0] = api.Node{Kind: api.Heading, N: 1}
+		if got := mustTree(t, "# "+line); !slices.Equal(got, want) {
+			t.Errorf("P3: the tree of a heading of %q:\n%v\nwant\n%v", line, got, want)
+		}
+		if got := mustTree(t, line+"\n="); !slices.Equal(got, want) {
+			t.Errorf("P3: the tree of %q, underlined:\n%v\nwant\n%v", line, got, want)
 		}
 	}
 }

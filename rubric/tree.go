@@ -3,6 +3,7 @@ package rubric
 import (
 	"rubric/api"
 	"rubric/blocks"
+	"rubric/within"
 )
 
 // appendBlocks lays blocks behind a list of nodes, each ahead of what is within it.
@@ -33,11 +34,19 @@ func spacing(list blocks.Block) string {
 	return "tight"
 }
 
-// appendContent lays what stands within a heading or a paragraph, as one text.
+// appendContent lays what stands within a heading or a paragraph.
 func appendContent(list []api.Node, b blocks.Block, depth int) []api.Node {
-	holds := b.Kind == api.Heading || b.Kind == api.Paragraph
-	if !holds || b.Text == "" {
+	if b.Kind != api.Heading && b.Kind != api.Paragraph {
 		return list
 	}
-	return append(list, api.Node{Depth: depth, Kind: api.Text, Text: b.Text})
+	return appendParts(list, within.Read(b.Text), depth)
+}
+
+func appendParts(list []api.Node, parts within.Parts, depth int) []api.Node {
+	for m := parts.First(); m != nil; m = m.Behind() {
+		p := m.Value
+		list = append(list, api.Node{Depth: depth, Kind: p.Kind, Info: p.Info, Text: p.Text})
+		list = appendParts(list, p.Parts, depth+1)
+	}
+	return list
 }

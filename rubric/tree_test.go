@@ -73,6 +73,34 @@ func TestTree(t *testing.T) {
 	}
 }
 
+// TestTreeWithin has what stands within blocks of each kind that has a content, and of one that has none.
+func TestTreeWithin(t *testing.T) {
+	text := func(depth int, s string) api.Node { return api.Node{Depth: depth, Kind: api.Text, Text: s} }
+	for _, c := range []struct {
+		text string
+		want []api.Node
+	}{
+		{"# a *b*", []api.Node{{Kind: api.Heading, N: 1}, text(1, "a "), {Depth: 1, Kind: api.Emph}, text(2, "b")}},
+		{"*a\n  b*  \n---", []api.Node{{Kind: api.Heading, N: 2}, {Depth: 1, Kind: api.Emph}, text(2, "a"), {Depth: 2, Kind: api.Soft}, text(2, "b")}},
+		{"***a***", []api.Node{{Kind: api.Paragraph}, {Depth: 1, Kind: api.Emph}, {Depth: 2, Kind: api.Strong}, text(3, "a")}},
+		{"a  \n`b`", []api.Node{{Kind: api.Paragraph}, text(1, "a"), {Depth: 1, Kind: api.Break}, {Depth: 1, Kind: api.Span, Text: "b"}}},
+		{"[a [b](c) d](e)", []api.Node{{Kind: api.Paragraph}, text(1, "[a "), {Depth: 1, Kind: api.Link, Info: "c"}, text(2, "b"), text(1, " d](e)")}},
+		{"![a *b*](c)", []api.Node{{Kind: api.Paragraph}, {Depth: 1, Kind: api.Image, Info: "c"}, text(2, "a "), {Depth: 2, Kind: api.Emph}, text(3, "b")}},
+		{"<ab:c>", []api.Node{{Kind: api.Paragraph}, {Depth: 1, Kind: api.Link, Info: "ab:c"}, text(2, "ab:c")}},
+		{"[](a)", []api.Node{{Kind: api.Paragraph}, {Depth: 1, Kind: api.Link, Info: "a"}}},
+		{"> - _a_", []api.Node{{Kind: api.Quote}, {Depth: 1, Kind: api.List, N: -1, Text: "tight"}, {Depth: 2, Kind: api.Item}, {Depth: 3, Kind: api.Paragraph}, {Depth: 4, Kind: api.Emph}, text(5, "a")}},
+		{"# a \\#", heading(0, 1, "a #")},
+		{"a\\", paragraph(0, "a\\")},
+		{"*a\n\nb*", slices.Concat(paragraph(0, "*a"), paragraph(0, "b*"))},
+		{"    *a*", code(0, "", "*a*\n")},
+		{"~~~ *b*\n\\*a*", code(0, "*b*", "\\*a*\n")},
+	} {
+		if got := mustTree(t, c.text); !slices.Equal(got, c.want) {
+			t.Errorf("P3: the tree of %q:\n%v\nwant\n%v", c.text, got, c.want)
+		}
+	}
+}
+
 func TestTreeNumberInsideParagraph(t *testing.T) {
 	count := 0
 	for _, n := range mustTree(t, "a\n2. b") {
