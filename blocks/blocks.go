@@ -10,6 +10,7 @@ import (
 // Block is a block of a text, or an item of a list.
 type Block struct {
 	Kind   api.Kind
+	Line   int     // where it begins, counted from where that begins which it stands in
 	N      int     // a heading's level, a list's number
 	Info   string  // of code
 	Text   string  // a code's text, the content of a heading or a paragraph
@@ -28,6 +29,7 @@ func Read(text string) []Block {
 func readRow(row []string) (list []Block, parted bool) {
 	for at := countBlank(row); at < len(row); {
 		block, size := readBlock(row[at:])
+		block.Line = at
 		list = append(list, block)
 		at += size
 		gap := countBlank(row[at:])
@@ -129,7 +131,7 @@ func readList(row []string, head item) (Block, int) {
 	for {
 		own := itemRow(row[size:], head)
 		blocks, parted := readRow(own)
-		list.Blocks = append(list.Blocks, Block{Kind: api.Item, Blocks: blocks})
+		list.Blocks = append(list.Blocks, Block{Kind: api.Item, Line: size, Blocks: blocks})
 		size += len(own)
 		gap := countBlank(row[size:])
 		next, more := nextItem(row[size+gap:], head.kind)

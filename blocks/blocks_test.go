@@ -2,6 +2,7 @@ package blocks
 
 import (
 	"fmt"
+	"strconv"
 	"strings"
 	"testing"
 
@@ -260,4 +261,37 @@ func TestTightAndLoose(t *testing.T) {
 		{"> - a\n>\n> - b", `quote[loose-1[item[par("a")] item[par("b")]]]`},
 		{"> - a\n>\n\nb", `quote[tight-1[item[par("a")]]] par("b")`},
 	})
+}
+
+// tellLines writes down at which line each block begins, and behind it what is within.
+func tellLines(list []Block) string {
+	var out []string
+	for _, b := range list {
+		line := strconv.Itoa(b.Line)
+		if len(b.Blocks) > 0 {
+			line += "[" + tellLines(b.Blocks) + "]"
+		}
+		out = append(out, line)
+	}
+	return strings.Join(out, " ")
+}
+
+func TestLines(t *testing.T) {
+	for _, c := range []reading{
+		{"a", "0"}, {"\n  \na", "2"}, {"a\nb\n\n\nc", "0 4"}, {"# a\n# b\nc\n---\nd", "0 1 2 4"},
+		{"a\nb\n===\nc\nd\n--", "0 3"},
+		{"~~~\n\n# a\n~~~\nb", "0 4"},
+		{"    a\n\n    b\n\nc", "0 4"},
+		{">\n> a\n>\n> b\nc", "0[1 3] 4"},
+		{"a\n> b\n> > c\n>\n> > d", "0 1[0 1[0] 3[0]]"},
+		{"- a\n- b\n\n\n- c", "0[0[0] 1[0] 4[0]]"},
+		{"a\n-\n  b\n\n  c\n- d\n", "0 2 4 5[0[0]]"},
+		{"\n-\n  b\n\n  c\n- d\n", "1[0[1 3] 4[0]]"},
+		{"-\n\n  a", "0[0] 2"},
+		{"1. a\n\n   2. b\n      c\n   3. d\n\ne", "0[0[0 2[0[0] 2[0]]]] 6"},
+	} {
+		if got := tellLines(Read(c.text)); got != c.want {
+			t.Errorf("P5: where the blocks of %q begin: %s, want %s", c.text, got, c.want)
+		}
+	}
 }

@@ -116,8 +116,8 @@ func checkShape(t *testing.T, text string, tree []api.Node) {
 func TestP1AnyBytes(t *testing.T) {
 	for _, text := range madeTexts() {
 		checkShape(t, text, mustTree(t, text))
-		Page(text)
-		Titles(text)
+		mustPage(t, text)
+		mustTitles(t, text)
 	}
 }
 
@@ -143,29 +143,52 @@ func TestP1NothingWithAnError(t *testing.T) {
 	if tree, e := Tree(long); e == api.OK || len(tree) != 0 {
 		t.Errorf("P1: Tree of a long text: %d nodes, error %d", len(tree), e)
 	}
+	if page, e := Page(long); e == api.OK || page != "" {
+		t.Errorf("P1: Page of a long text: %q, error %d", page, e)
+	}
+	if titles, e := Titles(long); e == api.OK || len(titles) != 0 {
+		t.Errorf("P1: Titles of a long text: %d of them, error %d", len(titles), e)
+	}
+}
+
+// answers is what the calls tell of a text.
+type answers struct {
+	tree   []api.Node
+	page   string
+	titles []api.Title
+}
+
+func answersOf(t *testing.T, text string) answers {
+	t.Helper()
+	return answers{tree: mustTree(t, text), page: mustPage(t, text), titles: mustTitles(t, text)}
+}
+
+func (a answers) equal(b answers) bool {
+	return slices.Equal(a.tree, b.tree) && a.page == b.page && slices.Equal(a.titles, b.titles)
 }
 
 func TestP2SameAnswer(t *testing.T) {
 	texts := madeTexts()
-	first := make([][]api.Node, len(texts))
+	first := make([]answers, len(texts))
 	for i, text := range texts {
-		first[i] = mustTree(t, text)
+		first[i] = answersOf(t, text)
 	}
 	for i, text := range slices.Backward(texts) {
-		if again := mustTree(t, text); !slices.Equal(first[i], again) {
-			t.Errorf("P2: the tree of %q is another one the second time: %v, %v", text, first[i], again)
+		if again := answersOf(t, text); !first[i].equal(again) {
+			t.Errorf("P2: of %q another thing is told the second time: %v, %v", text, first[i], again)
 		}
 	}
 }
 
 func TestP2NewMemory(t *testing.T) {
-	const text = "- a\n- b\n\n      c\n\n> # d *e* [f](g)"
-	first := mustTree(t, text)
-	want := slices.Clone(first)
-	second := mustTree(t, text)
-	clear(first[:cap(first)])
-	if !slices.Equal(second, want) || !slices.Equal(mustTree(t, text), want) {
-		t.Errorf("P2: a tree changes with another one: %v", second)
+	const text = "- a\n- b\n\n      c\n\n> # d *e* [f](g)\n\nh\n-"
+	first := answersOf(t, text)
+	want := answers{tree: slices.Clone(first.tree), page: first.page, titles: slices.Clone(first.titles)}
+	second := answersOf(t, text)
+	clear(first.tree[:cap(first.tree)])
+	clear(first.titles[:cap(first.titles)])
+	if !second.equal(want) || !answersOf(t, text).equal(want) {
+		t.Errorf("P2: what is told changes with what was told ahead of it: %v", second)
 	}
 }
 

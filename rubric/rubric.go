@@ -6,6 +6,7 @@ import (
 
 	"rubric/api"
 	"rubric/blocks"
+	"rubric/pages"
 )
 
 // Sheet is a text that is edited.
@@ -21,10 +22,20 @@ func Tree(text string) ([]api.Node, api.Errno) {
 }
 
 // Page writes a text as a page (P4).
-func Page(text string) (string, api.Errno) { return "", api.OK }
+func Page(text string) (string, api.Errno) {
+	if len(text) > api.MaxText {
+		return "", api.ErrLong
+	}
+	return pages.Write(blocks.Read(text)), api.OK
+}
 
 // Titles tells its headings (P5).
-func Titles(text string) ([]api.Title, api.Errno) { return nil, api.OK }
+func Titles(text string) ([]api.Title, api.Errno) {
+	if len(text) > api.MaxText {
+		return nil, api.ErrLong
+	}
+	return appendTitles(nil, blocks.Read(text), 0), api.OK
+}
 
 // NewSheet makes a sheet with a text (P6).
 func NewSheet(text string) (*Sheet, api.Errno) { return nil, api.OK }
