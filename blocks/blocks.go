@@ -10,12 +10,13 @@ import (
 // Block is a block of a text, or an item of a list.
 type Block struct {
 	Kind   api.Kind
-	Line   int     // where it begins, counted from where that begins which it stands in
-	N      int     // a heading's level, a list's number
-	Info   string  // of code
-	Text   string  // a code's text, the content of a heading or a paragraph
-	Loose  bool    // of a list
-	Blocks []Block // of a quote or an item; a list's items
+	Line   int      // where it begins, counted from where that begins which it stands in
+	Lines  []string // which it has of the row that it stands in
+	N      int      // a heading's level, a list's number
+	Info   string   // of code
+	Text   string   // a code's text, the content of a heading or a paragraph
+	Loose  bool     // of a list
+	Blocks []Block  // of a quote or an item; a list's items
 }
 
 // Read tells the blocks of a text.
@@ -29,7 +30,7 @@ func Read(text string) []Block {
 func readRow(row []string) (list []Block, parted bool) {
 	for at := countBlank(row); at < len(row); {
 		block, size := readBlock(row[at:])
-		block.Line = at
+		block.Line, block.Lines = at, row[at:at+size]
 		list = append(list, block)
 		at += size
 		gap := countBlank(row[at:])
@@ -131,7 +132,7 @@ func readList(row []string, head item) (Block, int) {
 	for {
 		own := itemRow(row[size:], head)
 		blocks, parted := readRow(own)
-		list.Blocks = append(list.Blocks, Block{Kind: api.Item, Line: size, Blocks: blocks})
+		list.Blocks = append(list.Blocks, Block{Kind: api.Item, Line: size, Lines: row[size : size+len(own)], Blocks: blocks})
 		size += len(own)
 		gap := countBlank(row[size:])
 		next, more := nextItem(row[size+gap:], head.kind)

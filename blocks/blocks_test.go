@@ -263,18 +263,24 @@ func TestTightAndLoose(t *testing.T) {
 	})
 }
 
-// tellLines writes down at which line each block begins, and behind it what is within.
-func tellLines(list []Block) string {
+// tellEach writes down something of each block, and behind it that of what is within.
+func tellEach(list []Block, between string, tell func(Block) string) string {
 	var out []string
 	for _, b := range list {
-		line := strconv.Itoa(b.Line)
+		told := tell(b)
 		if len(b.Blocks) > 0 {
-			line += "[" + tellLines(b.Blocks) + "]"
+			told += "[" + tellEach(b.Blocks, between, tell) + "]"
 		}
-		out = append(out, line)
+		out = append(out, told)
 	}
-	return strings.Join(out, " ")
+	return strings.Join(out, between)
 }
+
+// tellLine tells at which line a block begins.
+func tellLine(b Block) string { return strconv.Itoa(b.Line) }
+
+// tellRow tells which lines a block has.
+func tellRow(b Block) string { return strings.Join(b.Lines, "|") }
 
 func TestLines(t *testing.T) {
 	for _, c := range []reading{
@@ -290,8 +296,53 @@ func TestLines(t *testing.T) {
 		{"-\n\n  a", "0[0] 2"},
 		{"1. a\n\n   2. b\n      c\n   3. d\n\ne", "0[0[0 2[0[0] 2[0]]]] 6"},
 	} {
-		if got := tellLines(Read(c.text)); got != c.want {
+		if got := tellEach(Read(c.text), " ", tellLine); got != c.want {
 			t.Errorf("P5: where the blocks of %q begin: %s, want %s", c.text, got, c.want)
+		}
+	}
+}
+
+func TestLinesOfBlocks(t *testing.T) {
+	for _, c := range []reading{
+		{"", ""}, {"\n \n", ""}, {" a ", " a "}, {"\n  \na\n\n", "a"}, {"a\nb\n\n\nc\n", "a|b, c"},
+		{"# a\n ***\nb\n---\nc", "# a,  ***, b|---, c"},
+		{"    a\n\n    b\n\n", "    a||    b"},
+		{"~~~\n\na\n  \n~~~~ \nb", "~~~||a|  |~~~~ , b"}, {"~~~\n\n ", "~~~|| "}, {"~~~\n\n", "~~~|"},
+		{"> a\n>\n>  # b\nc", "> a|>|>  # b[a,  # b], c"},
+		{" - a\n\n   b\n\n- c\n\nd", " - a||   b||- c[ - a||   b[a, b], - c[c]], d"},
+		{"-\n\n  a", "-[-],   a"}, {"-\n  a\n\n", "-|  a[-|  a[a]]"},
+		{"1. - a\n\n2. b", "1. - a||2. b[1. - a[- a[- a[a]]], 2. b[b]]"},
+	} {
+		if got := tellEach(Read(c.text), ", ", tellRow); got != c.want {
+			t.Errorf("P7: the lines of the blocks of %q:\n%s\nwant\n%s", c.text, got, c.want)
+		}
+	}
+}
+
+// checkAlone reads the lines of each block by themselves.
+func checkAlone(t *testing.T, list []Block) {
+	t.Helper()
+	for _, b := range list {
+		if b.Kind != api.Item {
+			alone := Read(strings.Join(b.Lines, "\n") + "\n")
+			if got, want := tell(alone), tellOne(b); got != want {
+				t.Errorf("P7: %q by itself:\n%s\nwant\n%s", b.Lines, got, want)
+			}
+		}
+		checkAlone(t, b.Blocks)
+	}
+}
+
+// TestBlocksAlone: what a block is hangs on no lines but its own.
+func TestBlocksAlone(t *testing.T) {
+	lines := []string{"", "  ", "a", "- a", "-", "+", "  - b", "    c", "> d", ">", "> - e", "2. f", "1) g", "~~~", "   ~~~~", "```", "===", "---", "# h", "   i"}
+	for _, first := range lines {
+		for _, second := range lines {
+			for _, third := range lines {
+				for _, fourth := range lines {
+					checkAlone(t, Read(strings.Join([]string{first, second, third, fourth}, "\n")+"\n"))
+				}
+			}
 		}
 	}
 }

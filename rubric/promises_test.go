@@ -122,19 +122,21 @@ func TestP1AnyBytes(t *testing.T) {
 }
 
 func TestP1SheetCalls(t *testing.T) {
-	for _, text := range []string{"", "a", "# a\n- b", "\xff\x00", strings.Repeat("a", api.MaxText+1)} {
-		s, e := NewSheet(text)
-		if e != api.OK {
-			continue
+	numbers := []int{math.MinInt, -1, 0, 1, 2, api.MaxText, math.MaxInt}
+	for _, text := range []string{"", "a", "# a\n- b", "\xff\x00", strings.Repeat(">", api.MaxText), strings.Repeat("*", api.MaxText)} {
+		s := mustSheet(t, text)
+		for _, at := range numbers {
+			for _, remove := range numbers {
+				for _, insert := range []string{"", "a", text, strings.Repeat("\n", 10*api.MaxText)} {
+					s.Edit(at, remove, insert)
+				}
+			}
+			s.Page()
+			s.Titles()
 		}
-		for _, n := range []int{math.MinInt, -1, 0, 1, api.MaxText, math.MaxInt} {
-			s.Edit(n, 0, "a")
-			s.Edit(0, n, "a")
-			s.Edit(n, n, text)
+		if len(s.Text()) > api.MaxText {
+			t.Errorf("P6: the text of a sheet has %d bytes", len(s.Text()))
 		}
-		s.Text()
-		s.Page()
-		s.Titles()
 	}
 }
 
@@ -148,6 +150,9 @@ func TestP1NothingWithAnError(t *testing.T) {
 	}
 	if titles, e := Titles(long); e == api.OK || len(titles) != 0 {
 		t.Errorf("P1: Titles of a long text: %d of them, error %d", len(titles), e)
+	}
+	if s, e := NewSheet(long); e == api.OK || s != nil {
+		t.Errorf("P1: NewSheet of a long text: a sheet: %v, error %d", s != nil, e)
 	}
 }
 
@@ -204,8 +209,8 @@ func deeper(tree []api.Node, by int) []api.Node {
 	return out
 }
 
-// TestQuoteOfText: what is laid behind quote marks is told as it is, one deeper.
-func TestQuoteOfText(t *testing.T) {
+// TestP7QuoteOfText: what is laid behind quote marks is told as it is, one deeper.
+func TestP7QuoteOfText(t *testing.T) {
 	for _, text := range madeTexts() {
 		quoted := "> " + strings.Join(linesOf(text), "\n> ")
 		if len(quoted) > api.MaxText {
@@ -213,7 +218,7 @@ func TestQuoteOfText(t *testing.T) {
 		}
 		want := slices.Concat(one(0, api.Quote), deeper(mustTree(t, text), 1))
 		if got := mustTree(t, quoted); !slices.Equal(got, want) {
-			t.Errorf("P3: the tree of %q:\n%v\nwant\n%v", quoted, got, want)
+			t.Errorf("P7: the tree of %q:\n%v\nwant\n%v", quoted, got, want)
 		}
 	}
 }
@@ -307,8 +312,8 @@ func TestItemOfText(t *testing.T) {
 	}
 }
 
-// TestTextBetweenFences: what stands between fences is told as it is.
-func TestTextBetweenFences(t *testing.T) {
+// TestP7TextBetweenFences: what stands between fences is told as it is.
+func TestP7TextBetweenFences(t *testing.T) {
 	width := strings.Repeat("~", 100)
 	for _, text := range madeTexts() {
 		if len(text)+2*len(width)+2 > api.MaxText || strings.Contains(text, width) {
@@ -317,7 +322,7 @@ func TestTextBetweenFences(t *testing.T) {
 		body := strings.TrimSuffix(text, "\n") + "\n"
 		want := slices.Concat(code(0, "", body), paragraph(0, "a"))
 		if got := mustTree(t, width+"\n"+body+width+"\na"); !slices.Equal(got, want) {
-			t.Errorf("P3: %q between fences:\n%v\nwant\n%v", text, got, want)
+			t.Errorf("P7: %q between fences:\n%v\nwant\n%v", text, got, want)
 		}
 	}
 }
